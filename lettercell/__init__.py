@@ -1,0 +1,1 @@
+"""Lettercell: a cellar of letters that no fall can muddle."""
