@@ -28,6 +28,11 @@ METHODS = """append clear copy count endswith extend find get index insert isaln
 isupper items join keys ljust lower lstrip partition pop remove replace reverse rfind rjust rpartition rsplit rstrip
 setdefault split splitlines startswith strip update upper values zfill bit_length""".split()
 VALUES = "count index title find get join lower upper split strip copy add".split()
+WALKED = "zip enumerate reversed range".split()
+WALKED_BY = "list tuple dict sorted sum any all enumerate zip min max".split()
+KEYWORDS = {"sorted": ("key", "reverse"), "min": ("key", "default"), "max": ("key", "default"), "sum": ("start",),
+            "enumerate": ("start",), "zip": ("strict",)}
+TESTED = "int str bool list tuple dict".split()
 PYTHONS_METHODS = set(dir(str) + dir(int) + dir(list) + dir(dict) + dir(set) + dir(bytes) + dir(tuple))
 
 
@@ -36,6 +41,37 @@ def nodes_of(kind):
         for node in ast.walk(ast.parse(path.read_text())):
             if isinstance(node, kind):
                 yield path.name, node
+
+
+def nodes_with_parents(kind):
+    for path in FILES:
+        for parent in ast.walk(ast.parse(path.read_text())):
+            for node in ast.iter_child_nodes(parent):
+                if isinstance(node, kind):
+                    yield path.name, node, parent
+
+
+def is_call_of(node, names):
+    return isinstance(node, ast.Call) and isinstance(node.func, ast.Name) and node.func.id in names
+
+
+def is_walk(node):
+    if isinstance(node, ast.Call) and isinstance(node.func, ast.Attribute):
+        return node.func.attr in ("items", "keys", "values")
+    return is_call_of(node, WALKED)
+
+
+def classes_of_package():
+    return [node.name for name, node in nodes_of(ast.ClassDef)]
+
+
+def drawn_from():
+    """Of each file, the files that it draws from."""
+    drawn = {path.stem: [] for path in FILES}
+    for name, node in nodes_of(ast.ImportFrom):
+        if node.module != "__future__":
+            drawn[name[:-3]].append(node.module.split(".")[1])
+    return drawn
 
 
 def names_in_package():
@@ -150,3 +186,168 @@ class TestLanguage(unittest.TestCase):
                 if token.type == tokenize.STRING:
                     good = not re.search(r"\\[^nt\\'\"]", token.string.replace("\\\\", ""))
                     self.hold(good, "L27", path.name, token.start[0])
+
+    def test_the_top_of_a_file(self):
+        for path in FILES:
+            body = ast.parse(path.read_text()).body
+            self.hold(isinstance(body[0], ast.Expr), "L3", path.name, 1)
+            bound = []
+            for node in body[1:]:
+                self.hold(isinstance(node, (ast.ImportFrom, ast.FunctionDef, ast.ClassDef, ast.Assign)), "L3", path.name, node)
+                if isinstance(node, ast.ImportFrom):
+                    bound.extend(alias.asname or alias.name for alias in node.names)
+                elif isinstance(node, ast.Assign):
+                    bound.append(node.targets[0].id)
+                    for part in ast.walk(node.value):
+                        plain = isinstance(part, (ast.Constant, ast.Name, ast.List, ast.Tuple, ast.Dict, ast.Load))
+                        self.hold(plain, "L3", path.name, node)
+                        inner = isinstance(part, (ast.List, ast.Dict)) and part is not node.value
+                        self.hold(not inner, "L15", path.name, node)
+                else:
+                    bound.append(node.name)
+            self.assertEqual(len(bound), len(set(bound)), f"L15 at {path.name}")
+
+    def test_locals_are_not_called_like_classes_and_imports(self):
+        for path in FILES:
+            tree = ast.parse(path.read_text())
+            taken = [node.name for node in tree.body if isinstance(node, ast.ClassDef)]
+            taken.extend(alias.name for node in tree.body if isinstance(node, ast.ImportFrom) for alias in node.names)
+            for node in ast.walk(tree):
+                if isinstance(node, ast.arg):
+                    self.hold(node.arg not in taken, "L15", path.name, node)
+                if isinstance(node, ast.Name) and isinstance(node.ctx, ast.Store):
+                    self.hold(node.id not in taken, "L15", path.name, node)
+
+    def test_names_of_the_top_are_only_read(self):
+        for path in FILES:
+            tree = ast.parse(path.read_text())
+            kept = [node.targets[0].id for node in tree.body if isinstance(node, ast.Assign)
+                    and isinstance(node.value, (ast.List, ast.Dict))]
+            for parent in ast.walk(tree):
+                for node in ast.iter_child_nodes(parent):
+                    if isinstance(node, ast.Name) and node.id in kept and isinstance(node.ctx, ast.Load):
+                        read = isinstance(parent, (ast.Subscript, ast.Compare, ast.For, ast.comprehension))
+                        read = read or isinstance(parent, ast.Attribute) and parent.attr in ("get", "items", "keys")
+                        read = read or is_call_of(parent, ["len", "list", "dict", "sorted"])
+                        self.hold(read, "L15", path.name, node)
+
+    def test_no_two_files_draw_from_one_another(self):
+        drawn = drawn_from()
+        for start in drawn:
+            reached, left = [], list(drawn[start])
+            while left:
+                name = left.pop()
+                if name not in reached:
+                    reached.append(name)
+                    left.extend(drawn[name])
+            self.assertNotIn(start, reached, "L16")
+
+    def test_names_are_drawn_from_the_file_that_defines_them(self):
+        for name, node in nodes_of(ast.ImportFrom):
+            tree = ast.parse((PACKAGE / (node.module.split(".")[1] + ".py")).read_text())
+            defined = [part.name for part in tree.body if isinstance(part, (ast.FunctionDef, ast.ClassDef))]
+            defined.extend(part.targets[0].id for part in tree.body if isinstance(part, ast.Assign))
+            for alias in node.names:
+                self.hold(alias.name in defined and alias.asname is None, "L16", name, node)
+
+    def test_imports_are_used(self):
+        for path in FILES:
+            tree = ast.parse(path.read_text())
+            used = [node.id for node in ast.walk(tree) if isinstance(node, ast.Name)]
+            for node in tree.body:
+                if isinstance(node, ast.ImportFrom):
+                    for alias in node.names:
+                        self.assertIn(alias.name, used, path.name)
+
+    def test_classes_as_they_stand(self):
+        classes = classes_of_package()
+        for name, node, parent in nodes_with_parents(ast.Name):
+            if node.id in classes:
+                good = isinstance(parent, (ast.ClassDef, ast.ExceptHandler, ast.Raise))
+                good = good or isinstance(parent, ast.Call) and parent.func is node
+                good = good or is_call_of(parent, ["isinstance"])
+                good = good or isinstance(parent, ast.Attribute) and parent.attr == "__init__"
+                self.hold(good, "L18", name, node)
+
+    def test_errors_are_taken_by_their_own_names(self):
+        own = [node.name for name, node in nodes_of(ast.ClassDef) if name == "errors.py"]
+        for name, node in nodes_of(ast.ExceptHandler):
+            self.hold(isinstance(node.type, ast.Name) and node.type.id in own + ["KeyError"], "L19", name, node)
+        for name, node in nodes_of(ast.Raise):
+            self.hold(is_call_of(node.exc, own), "L19", name, node)
+            cause = node.cause
+            self.hold(cause is None or isinstance(cause, ast.Name) or cause.value is None, "L19", name, node)
+
+    def test_pythons_own_as_they_are_called(self):
+        for name, node, parent in nodes_with_parents(ast.Name):
+            if node.id in CALLABLE:
+                called = isinstance(parent, ast.Call) and parent.func is node
+                kind = is_call_of(parent, ["isinstance"]) or isinstance(parent, (ast.keyword, ast.Tuple))
+                self.hold(called or kind, "L22", name, node)
+        for name, node in nodes_of(ast.Call):
+            if isinstance(node.func, ast.Name) and node.func.id in CALLABLE:
+                for word in node.keywords:
+                    self.hold(word.arg in KEYWORDS.get(node.func.id, ()), "L22", name, node)
+            if isinstance(node.func, ast.Attribute) and node.func.attr in METHODS:
+                self.hold(not node.keywords, "L22", name, node)
+            if is_call_of(node, ["isinstance"]):
+                kinds = node.args[1].elts if isinstance(node.args[1], ast.Tuple) else [node.args[1]]
+                self.hold(all(kind.id in TESTED + classes_of_package() for kind in kinds), "L22", name, node)
+
+    def test_walked_at_once(self):
+        for name, node, parent in nodes_with_parents(ast.expr):
+            if is_walk(node):
+                good = isinstance(parent, (ast.For, ast.comprehension)) and parent.iter is node
+                good = good or is_call_of(parent, WALKED_BY)
+                good = good or isinstance(parent, ast.Call) and isinstance(parent.func, ast.Attribute) \
+                    and parent.func.attr == "join"
+                self.hold(good, "L23", name, node)
+
+    def test_what_a_loop_walks_is_not_changed_in_it(self):
+        changes = "append clear extend insert pop remove reverse setdefault update add discard".split()
+        for name, loop in nodes_of(ast.For):
+            walked = loop.iter
+            if is_walk(walked):
+                walked = walked.func.value if isinstance(walked.func, ast.Attribute) else walked.args[0]
+            if not isinstance(walked, (ast.Name, ast.Attribute)):
+                continue
+            for node in [part for statement in loop.body for part in ast.walk(statement)]:
+                if isinstance(node, ast.Call) and isinstance(node.func, ast.Attribute) and node.func.attr in changes:
+                    self.hold(ast.dump(node.func.value) != ast.dump(walked), "L23", name, node)
+                if isinstance(node, ast.Subscript) and isinstance(node.ctx, ast.Store):
+                    self.hold(ast.dump(node.value) != ast.dump(walked), "L23", name, node)
+
+    def test_sets(self):
+        for name, node, parent in nodes_with_parents((ast.Call, ast.Set)):
+            if isinstance(node, ast.Set) or is_call_of(node, ["set", "frozenset"]):
+                good = isinstance(parent, ast.Compare) or is_call_of(parent, ["sorted", "len"])
+                self.hold(good and not isinstance(node, ast.Set), "L13, L24", name, node)
+
+    def test_methods_are_called_where_they_stand(self):
+        own = [part.name for name, node in nodes_of(ast.ClassDef) for part in node.body
+               if isinstance(part, ast.FunctionDef)]
+        stored = [node.attr for name, node in nodes_of(ast.Attribute) if isinstance(node.ctx, ast.Store)]
+        for name, node, parent in nodes_with_parents(ast.Attribute):
+            if isinstance(node.ctx, ast.Load) and not (isinstance(parent, ast.Call) and parent.func is node):
+                self.hold(node.attr in stored and node.attr not in own, "L25", name, node)
+
+    def test_no_annotations_and_no_docstrings_within(self):
+        for name, node in nodes_of(ast.FunctionDef):
+            self.hold(node.returns is None and not [part for part in node.args.args if part.annotation], "L21", name, node)
+        for name, node in nodes_of((ast.FunctionDef, ast.ClassDef)):
+            self.hold(ast.get_docstring(node) is None, "L5, L6", name, node)
+        for name, node, parent in nodes_with_parents(ast.Expr):
+            self.hold(isinstance(node.value, ast.Call) or isinstance(parent, ast.Module), "L6", name, node)
+
+    def test_powers_and_shown_values(self):
+        for name, node in nodes_of(ast.BinOp):
+            if isinstance(node.op, ast.Pow):
+                good = isinstance(node.right, ast.Constant) and 0 <= node.right.value <= 64
+                self.hold(good, "L27", name, node)
+        for name, node in nodes_of(ast.FormattedValue):
+            self.hold(isinstance(node.value, ast.Name) and node.format_spec is None, "L7", name, node)
+
+    def test_one_target(self):
+        for name, node in nodes_of((ast.Assign, ast.AugAssign)):
+            target = node.targets[0] if isinstance(node, ast.Assign) else node.target
+            self.hold(isinstance(target, (ast.Name, ast.Attribute, ast.Subscript)), "L6", name, node)
