@@ -19,12 +19,19 @@ class Deeds:
         # By sender, the number of its deed that is not finished.
         self.busy = {}
 
-    def begin(self, sender, ends):
+    def need_free(self, sender):
         if sender in self.busy:
             raise Busy(self.busy[sender])
+
+    def next_number(self):
+        return len(self.deeds) + 1
+
+    def begin(self, sender, ends):
+        self.need_free(sender)
+        number = self.next_number()
         self.deeds.append(Deed(sender, ends))
-        self.busy[sender] = len(self.deeds)
-        return len(self.deeds)
+        self.busy[sender] = number
+        return number
 
     def open_of(self, sender):
         return self.busy.get(sender, 0)
@@ -42,11 +49,13 @@ class Deeds:
     def hold(self, number, row, place):
         self.numbered(number).spots.append((row, place))
 
-    def pledge(self, number, group, row, loan):
-        deed = self.numbered(number)
-        if (group, row, loan) in deed.pledges:
+    def need_unpledged(self, number, group, row, loan):
+        if (group, row, loan) in self.numbered(number).pledges:
             raise Twice(row, loan)
-        deed.pledges.append((group, row, loan))
+
+    def pledge(self, number, group, row, loan):
+        self.need_unpledged(number, group, row, loan)
+        self.numbered(number).pledges.append((group, row, loan))
 
     def finish(self, number, fate):
         deed = self.numbered(number)

@@ -34,3 +34,14 @@ def refusal(kind, ask, *things, **named):
             raise AssertionError(f"{type(caught).__name__} in the place of {kind.__name__}")
         return tuple(vars(caught).values())
     raise AssertionError(f"{told!r} in the place of {kind.__name__}")
+
+
+def shown(thing):
+    """All that an object holds, laid open, so that two moments can be compared."""
+    if isinstance(thing, dict):
+        return {key: shown(value) for key, value in thing.items()}
+    if isinstance(thing, (list, tuple)):
+        return [shown(part) for part in thing]
+    if hasattr(thing, "__dict__"):
+        return {name: shown(value) for name, value in vars(thing).items()}
+    return thing
