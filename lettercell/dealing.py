@@ -55,9 +55,9 @@ def moved(had, now):
 
 class Dealing:
     def __init__(self, rows):
-        # By row, rising; None for nobody.
+        # By row; None for nobody.
         self.owners = {}
-        for row in sorted(rows):
+        for row in rows:
             self.owners[row] = None
         self.takers = {}
 

@@ -64,14 +64,8 @@ def tale(lines, row, place):
     return told
 
 
-def open_deeds(events):
-    still = {}
-    for event in events:
-        if event["event"] == "begin":
-            still[event["deed"]] = True
-        elif event["event"] in ("close", "drop"):
-            still.pop(event["deed"], None)
-    return still
+def closed_deeds(events):
+    return [event["deed"] for event in events if event["event"] == "close"]
 
 
 def left_by(letters, event, row):
@@ -93,8 +87,8 @@ def standing(lines, row):
             letters.append(event)
         else:
             letters = left_by(letters, event, row)
-    unfinished = open_deeds(events)
-    kept = [letter for letter in letters if letter["deed"] not in unfinished]
+    bearing = [0] + closed_deeds(events)
+    kept = [letter for letter in letters if letter["deed"] in bearing]
     return [(letter["place"], letter["key"], letter["word"]) for letter in kept]
 
 

@@ -37,9 +37,10 @@ class Senders:
         if number == due:
             return None
         kept = self.spots[name]
-        if number < due - len(kept):
+        oldest = due - len(kept)
+        if number < oldest:
             raise TooOld(number)
-        return kept[number - due]
+        return kept[number - oldest]
 
     def note(self, name, number, row, place):
         self.need(name)

@@ -72,9 +72,9 @@ class TestFalls(unittest.TestCase):
                     self.assertEqual(left, many + 1 - kept)
                     self.stands(run, cellar, kept)
 
-    def test_cut_at_every_sign_of_some_lines(self):
-        run = self.runs[0]
-        for many in range(1, len(run.lines), 9):
+    def test_cut_at_every_sign_of_every_line(self):
+        run = Run(24, 70)
+        for many in range(1, len(run.lines)):
             for signs in range(len(run.lines[many])):
                 cellar, left = come_up(run.lines[:many] + [run.lines[many][:signs]])
                 self.assertEqual(len(cellar.written()) + left, many + 1)

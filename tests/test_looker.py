@@ -173,6 +173,7 @@ class TestTales(unittest.TestCase):
         self.cellar.give_back("g", NEWS, loans[0])
         self.assertIsNone(self.cellar.take("g", "tom", NEWS))
         self.assertEqual(asides(self.cellar.written(), "g", NEWS), [0, 2])
+        self.assertEqual(self.cellar.aside_of("g", NEWS), [0, 2])
 
     def test_spots(self):
         for number in range(1, 12):
