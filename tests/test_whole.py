@@ -32,6 +32,7 @@ class Watcher:
         self.groups = {}
         self.tables = {}
         self.fronts_before = [0] * MANY_ROWS
+        self.floors_before = [0] * MANY_ROWS
         self.marks_before = {}
 
     def __deepcopy__(self, memo):
@@ -139,6 +140,9 @@ class Watcher:
             self.gone[spot] = "dropped"
 
     def see_found(self, group, shelf, turns, tries, width):
+        # Only here a floor may go back.
+        for row in ROWS[shelf]:
+            self.floors_before[row] = 0
         self.groups[group] = {"starts": {row: self.firsts[row] for row in ROWS[shelf]}, "turns": int(turns),
                               "tries": int(tries), "width": int(width), "owners": {row: None for row in ROWS[shelf]},
                               "takers": [], "fates": {}, "lent": {}, "loans": {row: 0 for row in ROWS[shelf]}}
@@ -265,6 +269,9 @@ class Watcher:
         for row in range(MANY_ROWS):
             self.hold(fronts[row] >= self.fronts_before[row], "front", row)
             self.look_at_row(cellar, row, fronts[row])
+            floor = cellar.floor_of(row)
+            self.hold(floor == min(self.marks_of(row) + [fronts[row]]) and floor >= self.floors_before[row], "floor", row)
+            self.floors_before[row] = floor
         self.fronts_before = fronts
         self.look_at_deeds(cellar, fronts)
         for group, kept in self.groups.items():
