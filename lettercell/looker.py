@@ -70,8 +70,6 @@ def closed_deeds(events):
 
 def left_by(letters, event, row):
     name = event["event"]
-    if name == "drop":
-        return [letter for letter in letters if letter["deed"] != event["deed"]]
     if name == "away" and event["row"] == row:
         return [letter for letter in letters if letter["place"] != event["place"]]
     if name == "cut" and event["row"] == row:
@@ -87,6 +85,7 @@ def standing(lines, row):
             letters.append(event)
         else:
             letters = left_by(letters, event, row)
+    # Neither the letters of an open deed nor those of a dropped one are told.
     bearing = [0] + closed_deeds(events)
     kept = [letter for letter in letters if letter["deed"] in bearing]
     return [(letter["place"], letter["key"], letter["word"]) for letter in kept]
